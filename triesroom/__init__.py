@@ -1,0 +1,1 @@
+"""Flaky tests: tries, verdicts, quarantine."""
