@@ -2,7 +2,8 @@
 
 from triesroom.house import answers
 
-NUMBERS = {"policy": 0, "tests": 1, "tell": 2, "outcome": 3, "dry": 4, "run": 5}
+NUMBERS = {"policy": 0, "tests": 1, "tell": 2, "outcome": 3, "dry": 4, "run": 5,
+           "check": 6, "history": 7, "score": 8, "held": 9, "hold": 10, "odds": 11}
 FAR = 10 ** 18
 
 # Two tries at most, one pass needed: the outcomes below make every sort of run with these.
@@ -12,6 +13,9 @@ ALL_FAIL = [0]
 FLAKY_RUN = [1, 2, 1, 0]
 CLEAN_RUN = [1, 1, 1, 1]
 FAILED_RUN = [0, 2, 0, 1]
+
+# Calls that change nothing and show all that is kept of tests, and two of the rules.
+LOOKS = [("held",), ("odds", 1, 3)] + [(call, x) for x in range(12) for call in ("history", "score")]
 
 
 def line(*calls):
@@ -65,7 +69,8 @@ def held_after(*calls):
 
 
 def assert_refused(case, number, before, refused, probes):
-    """Check that a call is refused with the number, and that the probes find all as it was."""
+    """Check that a call is refused with the number, and that looks and probes find all as it was."""
+    calls = [*LOOKS, *probes]
     with case.subTest(refused=refused):
         case.assertEqual(behind(before, [refused]), [[number]])
-        case.assertEqual(behind([*before, refused], probes), behind(before, probes))
+        case.assertEqual(behind([*before, refused], calls), behind(before, calls))

@@ -2,7 +2,7 @@
 
 import unittest
 
-from tests.lines import FAR, FLAKY, TWO_TRIES, ask, line
+from tests.lines import CLEAN_RUN, FAR, FLAKY, TWO_TRIES, ask, behind, line
 from triesroom.house import UnknownCall, answers
 
 
@@ -27,6 +27,16 @@ EVERY_CALL = [
     5, 0, 30,
     2, 1, 31, 0,
     5, 1, 31,
+    7, 1,
+    8, 1,
+    9,
+    10, 0, 1,
+    9,
+    6, 30,
+    8, 1,
+    9,
+    11, 1, 2,
+    10, 1, 2,
 ]
 EVERY_ANSWER = [
     1, 0,
@@ -39,6 +49,16 @@ EVERY_ANSWER = [
     5, 1, 2, 2, 1, 0,
     1, -2,
     5, 1, 2, 2, 1, 0,
+    16, 3, 31, 1, 2, 2, 1, 30, 0, 3, 1, 0, 30, 0, 3, 1, 0,
+    4, 0, 0, 0, 0,
+    1, 0,
+    1, 1,
+    2, 1, 0,
+    5, 0, 5, 1, 1, 0,
+    4, 0, 1, 1, 0,
+    1, 0,
+    2, 1, 2,
+    1, -1,
 ]
 
 
@@ -51,6 +71,12 @@ class Form(unittest.TestCase):
         self.assertEqual(answers([1, 13]), [1, -1])
         self.assertEqual(answers([0, 1, 1, 1, 1, 1]), [1, 0])
         self.assertEqual(answers([2, 0, 0, 0]), [1, -1])
+        self.assertEqual(answers([6, 0]), [4, 1, 0, 0, 0])
+        self.assertEqual(answers([7, 0]), [1, -1])
+        self.assertEqual(answers([8, 0]), [1, -1])
+        self.assertEqual(answers([9]), [1, 0])
+        self.assertEqual(answers([10, 0, 1]), [1, -1])
+        self.assertEqual(answers([11, 6, 8]), [2, 3, 4])
 
     def test_the_numbers_are_whole_numbers_and_the_list_is_a_list(self):
         given = answers(EVERY_CALL)
@@ -68,6 +94,9 @@ class Form(unittest.TestCase):
         self.assertEqual(
             ask(("tests", 5), ("tell", 4, 5, [1, 0, 1]), ("outcome", 4, 5, 1), ("dry", 2, 2), ("run", 1, 1)),
             [[5], [1], [0], [1, 1, 1, 1], [1, 1, 1, 1, 0]])
+        self.assertEqual(
+            ask(("tests", 12), ("check", 9), ("hold", 10, 1), ("history", 9), ("held",), ("odds", 9, 9), ("score", 10)),
+            [[12], [1, 12, 0, 0], [1], [1, 9, 1, 1, 1, 1], [1, 10], [1, 1], [1, 0, 0, 0]])
 
     def test_the_longest_lines(self):
         # assertTrue, since to show where two such long lists differ takes minutes.
@@ -76,9 +105,21 @@ class Form(unittest.TestCase):
         self.assertTrue(answers(line(*[told] * 400)) == [1, -1] * 400)
         runs = [TWO_TRIES, ("tests", 1), ("tell", 0, 0, FLAKY)] + [("run", 0, 0)] * 397
         self.assertTrue(ask(*runs)[3:] == [[1, 2, 1, 0, 0]] + [[1, 2, 1, 0, 1]] * 396)
+        self.assertTrue(answers([9] * 400) == [1, 0] * 400)
+        checks = ask(("tests", 12), *[("check", 0)] * 399)
+        self.assertTrue(checks == [[12]] + [[1, 12, 0, 0]] * 399)
+
+    def test_the_longest_answers(self):
+        runs = [("tests", 12)] + [("check", v) for v in range(64)]
+        history = [64] + [number for v in range(63, -1, -1) for number in [v, *CLEAN_RUN]]
+        self.assertTrue(behind(runs, [("history", 11)] * 335) == [history] * 335)
+        everyone = [("tests", 12)] + [("hold", x, 1) for x in range(12)]
+        self.assertTrue(behind(everyone, [("held",)] * 387) == [[12, *range(12)]] * 387)
+        unlikely = [("policy", 9, 9, 10, 2, 5)] + [("odds", 1, 1000)] * 399
+        self.assertTrue(ask(*unlikely) == [[0]] + [[1, 10 ** 27]] * 399)
 
     def test_a_number_that_no_call_has(self):
-        for wrong in (-1, -6, 12, FAR):
+        for wrong in (-1, -6, 12, FAR, -FAR):
             with self.subTest(wrong=wrong), self.assertRaises(UnknownCall):
                 answers([1, 1, wrong])
 
@@ -95,6 +136,8 @@ class Kept(unittest.TestCase):
             answers(list(between))
             self.assertEqual(answers(EVERY_CALL), EVERY_ANSWER)
             self.assertEqual(answers([4, 0, 0]), [1, -1])
+            self.assertEqual(answers([9, 7, 0, 8, 0, 6, 0, 11, 1, 3]), [1, 0, 1, -1, 1, -1, 4, 1, 0, 0, 0, 2, 1, 3])
+            self.assertEqual(answers([1, 2, 9, 7, 0, 8, 0]), [1, 2, 1, 0, 1, 0, 4, 0, 0, 0, 0])
             self.assertEqual(answers(line(("tests", 1), ("tell", 0, 0, FLAKY), ("dry", 0, 0)))[-4:], [0, 1, 0, 1])
 
     def test_what_is_given_back_is_new_each_time(self):

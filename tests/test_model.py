@@ -1,9 +1,23 @@
 """Many lines, made from written seeds, against a second telling of the document that is slow and plain."""
 
+import functools
+import itertools
 import random
 import unittest
+from fractions import Fraction
 
 from tests.lines import FAR, ask
+
+
+@functools.cache
+def chance(passes, failures, need, most, each):
+    """Give the chance that a run passes which has come so far, try by try."""
+    if passes == need:
+        return Fraction(1)
+    if failures > most - need:
+        return Fraction(0)
+    return (each * chance(passes + 1, failures, need, most, each)
+            + (1 - each) * chance(passes, failures + 1, need, most, each))
 
 
 class Model:
@@ -72,9 +86,9 @@ class Model:
         if made == [-1]:
             return made
         window, limit, calm = self.rules[2:]
-        self.kept[x].append(made[3])
-        since = self.kept[x][self.moves[x][-1]:]
-        held = len(self.moves[x]) % 2 == 0
+        self.kept[x].append([v, *made])
+        since = self.clean_since(x)
+        held = self.in_quarantine(x)
         if held:
             move = len(since) >= calm and all(since[-calm:])
         else:
@@ -83,8 +97,61 @@ class Model:
             self.moves[x].append(len(self.kept[x]))
         return made + [int(held != move)]
 
+    def in_quarantine(self, x):
+        return len(self.moves[x]) % 2 == 0
+
+    def clean_since(self, x):
+        """Say of each run since the last move whether it was clean, the last run at the end."""
+        return [kept[4] for kept in self.kept[x][self.moves[x][-1]:]]
+
+    def check(self, v):
+        if v not in range(1000):
+            return [-1]
+        before = [self.in_quarantine(x) for x in range(self.tests)]
+        made = [self.run(x, v) for x in range(self.tests)]
+        failed = [x for x in range(self.tests) if made[x][0] == 0]
+        out = [x for x in failed if not before[x]]
+        held = [x for x in failed if before[x]]
+        return [int(out == []), sum(run[1] for run in made), len(out), *out, len(held), *held]
+
+    def history(self, x):
+        if self.wrong(x, 0):
+            return [-1]
+        remembered = self.kept[x][::-1][:64]
+        return [len(remembered), *itertools.chain(*remembered)]
+
+    def score(self, x):
+        if self.wrong(x, 0):
+            return [-1]
+        since = self.clean_since(x)[-64:]
+        calm = list(itertools.takewhile(bool, since[::-1]))
+        return [int(self.in_quarantine(x)), len(since), since[-self.rules[2]:].count(0), len(calm)]
+
+    def held(self):
+        found = [x for x in range(self.tests) if self.in_quarantine(x)]
+        return [len(found), *found]
+
+    def hold(self, x, on):
+        if self.wrong(x, 0) or on not in (0, 1):
+            return [-1]
+        if self.in_quarantine(x) == bool(on):
+            return [0]
+        self.moves[x].append(len(self.kept[x]))
+        return [1]
+
+    def odds(self, a, q):
+        if q not in range(1, 1001) or a not in range(q + 1):
+            return [-1]
+        found = chance(0, 0, *self.rules[:2], Fraction(a, q))
+        return [found.numerator, found.denominator]
+
     def answer(self, call):
         return getattr(self, "begin" if call[0] == "tests" else call[0])(*call[1:])
+
+
+# How often each call comes: enough runs that the 65th is met, and not so many moves by hand that no other is.
+WEIGHTS = {"policy": 6, "tests": 1, "tell": 35, "outcome": 10, "dry": 10, "run": 60,
+           "check": 30, "history": 10, "score": 25, "held": 10, "hold": 6, "odds": 10}
 
 
 class Maker:
@@ -118,14 +185,25 @@ class Maker:
             bits[0] = self.odd(bits[0], [-1, 2, FAR, -FAR])
         return ("tell", self.x(), self.v(), bits)
 
+    def odds(self):
+        q = self.odd(self.random.randint(1, self.random.choice([9, 1000])), [-1, 0, 1, 1000, 1001, FAR, -FAR])
+        a = self.odd(self.random.randint(0, max(q, 0)), [-1, 0, q, q + 1, FAR, -FAR])
+        return ("odds", a, q)
+
     def call(self):
-        kind = self.random.choices(["policy", "tests", "tell", "outcome", "dry", "run"], [6, 1, 35, 10, 10, 90])[0]
-        if kind == "policy":
-            return self.policy()
+        kind = self.random.choices(list(WEIGHTS), list(WEIGHTS.values()))[0]
+        if kind in ("policy", "tell", "odds"):
+            return getattr(self, kind)()
         if kind == "tests":
             return ("tests", self.odd(self.tests, [-1, 0, 12, 13, FAR, -FAR]))
-        if kind == "tell":
-            return self.tell()
+        if kind == "held":
+            return ("held",)
+        if kind == "check":
+            return ("check", self.v())
+        if kind in ("history", "score"):
+            return (kind, self.x())
+        if kind == "hold":
+            return ("hold", self.x(), self.odd(self.random.randint(0, 1), [-1, 2, FAR, -FAR]))
         if kind == "outcome":
             return ("outcome", self.x(), self.v(), self.odd(self.random.randrange(40), [-1, 999, 1000, FAR, -FAR]))
         return (kind, self.x(), self.v())
@@ -133,6 +211,9 @@ class Maker:
     def line(self):
         first = [self.policy(), ("tests", self.tests)]
         return first + [self.call() for place in range(self.random.choice([5, 60, 398]))]
+
+
+REFUSALS = {("tell", -2), ("tell", -7)} | {(call, -1) for call in WEIGHTS if call != "held"}
 
 
 class Lines(unittest.TestCase):
@@ -144,10 +225,11 @@ class Lines(unittest.TestCase):
             expected = [model.answer(call) for call in calls]
             for place, answer in enumerate(ask(*calls)):
                 self.assertEqual(answer, expected[place], f"seed {seed}, call {place}: {calls[place]}")
-            met |= {(call[0], answer[0]) for call, answer in zip(calls, expected) if answer[0] < 0}
-            met |= {answer[-1] for call, answer in zip(calls, expected) if call[0] == "run" and answer[0] >= 0}
-        self.assertEqual(met, {0, 1, ("policy", -1), ("tests", -1), ("tell", -1), ("tell", -2), ("tell", -7),
-                               ("outcome", -1), ("dry", -1), ("run", -1)})
+            met |= {(call[0], answer[0]) for call, answer in zip(calls, expected)}
+        self.assertEqual({(call, first) for call, first in met if first < 0}, REFUSALS)
+        for call, firsts in (("check", (0, 1)), ("hold", (0, 1)), ("score", (0, 1)), ("history", (0, 63, 64))):
+            for first in firsts:
+                self.assertIn((call, first), met)
 
 
 if __name__ == "__main__":

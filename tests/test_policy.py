@@ -35,7 +35,10 @@ class Accepted(unittest.TestCase):
         self.assertEqual(last(*TOLD, ("dry", 0, 0)), [0, 1, 0, 1])
         told = [("tests", 1), ("tell", 0, 0, [1, 0])]
         self.assertEqual(last(*told, ("dry", 0, 0)), CLEAN_RUN)
-        # With one try no run is flaky, so no line can show the other three; the object does.
+        held = [("tests", 1), ("hold", 0, 1)]
+        self.assertEqual(held_after(*held, *[("run", 0, 0)] * 6), [1, 1, 1, 1, 0, 0])
+        self.assertEqual(ask(("odds", 2, 3)), [[2, 3]])
+        # With one try no run is flaky, so no line can show the window and the limit; the object does.
         rules = Room().rules
         self.assertEqual((rules.need, rules.most, rules.window, rules.limit, rules.calm), (1, 1, 10, 2, 5))
 
@@ -50,6 +53,9 @@ class Accepted(unittest.TestCase):
     def test_policy_leaves_histories_and_quarantines(self):
         into = [*TOLD, ("policy", 1, 2, 1, 1, 3), ("run", 0, 1), ("run", 0, 5)]
         self.assertEqual(held_after(*into, ("policy", 1, 2, 20, 20, 3), ("run", 0, 5), ("run", 0, 5)), [1, 1, 1, 0])
+        looks = [("held",), ("history", 0), ("score", 0)]
+        for rules in [(1, 1, 1, 1, 1), (9, 9, 20, 20, 20), (2, 3, 20, 1, 1)]:
+            self.assertEqual(behind([*into, ("policy", *rules)], looks), [[1, 0], *behind(into, looks[1:])])
 
     def test_policy_leaves_what_is_told(self):
         self.assertEqual(last(*TOLD, TWO_TRIES, ("tell", 0, 1, [1])), [2])

@@ -36,13 +36,18 @@ class Accepted(unittest.TestCase):
     def test_none_is_in_quarantine_afterwards(self):
         self.assertEqual([answer[-1] for answer in ask(*BOTH_HELD)[-4:]], [0, 1, 0, 1])
         self.assertEqual(held_after(*BOTH_HELD, ("tests", 2), ("run", 0, 7), ("run", 1, 7))[-2:], [0, 0])
+        self.assertEqual(behind(BOTH_HELD, [("held",), ("tests", 2), ("held",)]), [[2, 0, 1], [2], [0]])
 
     def test_histories_are_empty_and_counts_are_0_afterwards(self):
         line = [*FLAKY_TESTS, ("run", 0, 7), ("tests", 2), ("tell", 0, 7, FLAKY), ("run", 0, 7), ("run", 0, 7)]
         self.assertEqual(held_after(*line), [0, 0, 1])
+        looks = [(call, x) for x in (0, 1) for call in ("history", "score")]
+        for before in (BOTH_HELD, [*FLAKY_TESTS, ("check", 7)]):
+            self.assertEqual(behind([*before, ("tests", 2)], looks), [[0], [0, 0, 0, 0]] * 2)
 
     def test_the_rules_stay(self):
         self.assertEqual(last(*FLAKY_TESTS, ("tests", 1), ("tell", 0, 7, FLAKY), ("dry", 0, 7)), FLAKY_RUN)
+        self.assertEqual(last(*FLAKY_TESTS, ("tests", 1), ("odds", 1, 2)), [3, 4])
 
     def test_each_test_has_a_record_of_its_own(self):
         line = [*FLAKY_TESTS, ("run", 0, 7), ("run", 1, 7), ("run", 0, 7), ("run", 1, 8), ("run", 1, 7)]

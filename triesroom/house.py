@@ -7,9 +7,15 @@ TESTS = 1
 TELL = 2
 OUTCOME = 3
 DRY = 4
+RUN = 5
+CHECK = 6
+HISTORY = 7
+SCORE = 8
+HELD = 9
+HOLD = 10
 
 # How many whole numbers each call has, by the call's number; the row of tell comes behind them.
-WHOLE_NUMBERS = {0: 5, 1: 1, 2: 2, 3: 3, 4: 2, 5: 2}
+WHOLE_NUMBERS = {0: 5, 1: 1, 2: 2, 3: 3, 4: 2, 5: 2, 6: 1, 7: 1, 8: 1, 9: 0, 10: 2, 11: 2}
 
 
 class UnknownCall(ValueError):
@@ -40,8 +46,20 @@ def answer_to_call(room, kind, numbers):
         return room.outcome(numbers[0], numbers[1], numbers[2])
     if kind == DRY:
         return room.dry(numbers[0], numbers[1])
-    # Run, number 5, is left: end_of_call lets no number through that no call has.
-    return room.run(numbers[0], numbers[1])
+    if kind == RUN:
+        return room.run(numbers[0], numbers[1])
+    if kind == CHECK:
+        return room.check(numbers[0])
+    if kind == HISTORY:
+        return room.history(numbers[0])
+    if kind == SCORE:
+        return room.score(numbers[0])
+    if kind == HELD:
+        return room.held()
+    if kind == HOLD:
+        return room.hold(numbers[0], numbers[1])
+    # Odds, number 11, is left: end_of_call lets no number through that no call has.
+    return room.odds(numbers[0], numbers[1])
 
 
 def answers(calls):
